@@ -1,6 +1,7 @@
 package sum
 
 import (
+	"slices"
 	"sync"
 	"testing"
 )
@@ -37,41 +38,29 @@ func steps(b int) uint32 {
 	return n
 }
 
+// laid says that of each byte what the eight steps make is laid up.
+func laid(t *testing.T, s *sums) {
+	t.Helper()
+	for b, n := range s.of {
+		if n != steps(b) {
+			t.Errorf("of %02x %08x is laid up, want %08x", b, n, steps(b))
+		}
+	}
+}
+
 // Each of those who come first at the same time finds all laid up.
 func TestFirstCallsAtTheSameTime(t *testing.T) {
 	for range 500 {
 		s := &sums{}
-		laid := func(i int) uint32 {
-			s.count()
-			return s.of[255-7*i]
-		}
-		for i, n := range atOnce(32, laid) {
-			if want := steps(255 - 7*i); n != want {
-				t.Fatalf("of %02x %08x is laid up, want %08x", 255-7*i, n, want)
+		for i, n := range atOnce(32, func(i int) uint32 { return s.sum([][]byte{words(i), words(i * i)}) }) {
+			if want := Sum(words(i), words(i*i)); n != want {
+				t.Fatalf("sum of %x and %x is %08x, want %08x", words(i), words(i*i), n, want)
 			}
 		}
 		if s.made.Load() != 32 {
 			t.Fatalf("of 32 sums %d were counted", s.made.Load())
 		}
-	}
-}
-
-func TestSumsAreCounted(t *testing.T) {
-	was := kept.made.Load()
-	Sum()
-	Sum(nil)
-	Sum([]byte("1234"), []byte("56789"))
-	if now := kept.made.Load(); now != was+3 {
-		t.Errorf("of 3 sums %d were counted", now-was)
-	}
-	atOnce(64, func(i int) uint32 {
-		for range 99 {
-			Sum(words(i))
-		}
-		return Sum()
-	})
-	if now := kept.made.Load(); now != was+3+6400 {
-		t.Errorf("of 6400 sums %d were counted", now-was-3)
+		laid(t, s)
 	}
 }
 
@@ -81,49 +70,84 @@ func TestLaidUpOnce(t *testing.T) {
 	if s.of[1] != 0 {
 		t.Error("it is there ahead of the first sum")
 	}
-	s.count()
-	for b, n := range s.of {
-		if n != steps(b) {
-			t.Errorf("of %02x %08x is laid up, want %08x", b, n, steps(b))
-		}
-	}
+	s.sum(nil)
+	laid(t, s)
 	s.of = [256]uint32{}
-	s.count()
+	s.sum(nil)
+	s.sum([][]byte{words(1)})
+	atOnce(32, func(i int) uint32 { return s.sum([][]byte{words(i)}) })
 	if s.of != [256]uint32{} {
 		t.Error("it was laid up twice")
 	}
 }
 
-// Each sum sees to it that the variable has what the eight steps make of each byte.
+// Laid goes by the variable: what it has of each byte is there from the first call on.
 func TestKept(t *testing.T) {
-	Sum()
-	for b, n := range kept.of {
-		if n != steps(b) {
-			t.Errorf("of %02x %08x is laid up, want %08x", b, n, steps(b))
-		}
+	Laid()
+	laid(t, &kept)
+	was := kept.of
+	defer func() { kept.of = was }()
+	clear(kept.of[:])
+	if n := Laid([]byte{1}); n != ^uint32(0xffffff) {
+		t.Errorf("Laid of 01 is %08x, with noughts in the variable", n)
 	}
 }
 
-// Whatever the variable is made to have, each sum is the same, and is counted.
+func TestSumsAreCounted(t *testing.T) {
+	was := kept.made.Load()
+	Laid()
+	Laid(nil)
+	Laid([]byte("1234"), []byte("56789"))
+	if now := kept.made.Load(); now != was+3 {
+		t.Errorf("of 3 sums %d were counted", now-was)
+	}
+	atOnce(64, func(i int) uint32 {
+		for range 99 {
+			Laid(words(i))
+		}
+		return Laid()
+	})
+	if now := kept.made.Load(); now != was+3+6400 {
+		t.Errorf("of 6400 sums %d were counted", now-was-3)
+	}
+}
+
+// Whatever the variable has, Sum is the same, and leaves it as it is.
 func TestSumsWithoutTheVariable(t *testing.T) {
+	Laid()
 	was := kept.of
 	defer func() { kept.of = was }()
 	for i := range 3000 {
 		lists := [][]byte{words(i), nil, words(i / 7), words(i * i)[:i%6]}
 		kept.of = was
-		want := Sum(lists...)
+		want := Laid(lists...)
 		for b := range kept.of {
 			kept.of[b] *= uint32(i % 4)
 		}
-		made := kept.made.Load()
+		of, made := kept.of, kept.made.Load()
 		if n := Sum(lists...); n != want {
 			t.Fatalf("Sum of %x is %08x with others in the variable, want %08x", lists, n, want)
 		}
-		if kept.made.Load() != made+1 {
-			t.Fatal("a sum was not counted")
+		if kept.of != of || kept.made.Load() != made {
+			t.Fatal("Sum changed the variable")
 		}
 	}
 	if n := Sum([]byte("123456789")); n != 0xcbf43926 {
 		t.Errorf("Sum of 123456789 is %08x with others in the variable", n)
+	}
+}
+
+// Neither Sum, nor what Sum calls, names the variable, nor anything of it; Laid does.
+func TestSumNamesNoVariable(t *testing.T) {
+	names := reached(t, "Sum")
+	for _, n := range []string{"kept", "sums", "once", "made", "sync", "atomic"} {
+		if slices.Contains(names, n) {
+			t.Errorf("Sum comes to %s", n)
+		}
+	}
+	for _, n := range []string{"kept", "sums", "once", "made", "eight"} {
+		if !slices.Contains(reached(t, "Laid"), n) {
+			t.Errorf("Laid does not come to %s", n)
+		}
 	}
 }
